@@ -1,0 +1,44 @@
+// Package reals: exact real numbers: see DOC.md.
+package reals
+
+import (
+	"reals/api"
+	"reals/tree"
+)
+
+// Expr is an expression. Nothing changes it once it is read.
+type Expr struct {
+	root *tree.Node
+}
+
+// Read reads a text (P3 to P5): the expression, the error, the place.
+func Read(s string) (*Expr, api.Errno, int) {
+	root, err, at := tree.Read(s)
+	if err != api.OK {
+		return nil, err, at
+	}
+	return &Expr{root: root}, api.OK, 0
+}
+
+// Text writes the expression (P6).
+func (x *Expr) Text() string {
+	if x == nil {
+		return ""
+	}
+	return x.root.Text()
+}
+
+// Digits tells the sign and k digits (P13).
+func (x *Expr) Digits(k int, fuel int) (string, api.Errno) { return "", api.OK }
+
+// Encloses tells between what the value lies by the sign and k digits (P14).
+func (x *Expr) Encloses(k int, fuel int) (string, string, api.Errno) { return "", "", api.OK }
+
+// Decimal tells the value times 10 to the n as a whole number (P15).
+func (x *Expr) Decimal(n int, fuel int) (string, api.Errno) { return "", api.OK }
+
+// Terms tells k terms of the continued fraction (P16).
+func (x *Expr) Terms(k int, fuel int) ([]string, api.Errno) { return nil, api.OK }
+
+// Compare tells which of two values is the greater (P17).
+func Compare(x *Expr, y *Expr, bits int, fuel int) (int, api.Errno) { return 0, api.OK }
