@@ -3,6 +3,7 @@ package reals
 
 import (
 	"reals/api"
+	"reals/matrix"
 	"reals/tree"
 )
 
@@ -28,11 +29,31 @@ func (x *Expr) Text() string {
 	return x.root.Text()
 }
 
-// Digits tells the sign and k digits (P13).
-func (x *Expr) Digits(k int, fuel int) (string, api.Errno) { return "", api.OK }
+// Digits tells the sign and k digits (P14).
+func (x *Expr) Digits(k int, fuel int) (string, api.Errno) {
+	list, err := x.symbols(k, fuel)
+	if err != api.OK {
+		return "", err
+	}
+	text := []byte{}
+	for i := 0; i < len(list); i++ {
+		text = append(text, list[i].Letter())
+	}
+	return string(text), api.OK
+}
 
 // Encloses tells between what the value lies by the sign and k digits (P14).
-func (x *Expr) Encloses(k int, fuel int) (string, string, api.Errno) { return "", "", api.OK }
+func (x *Expr) Encloses(k int, fuel int) (string, string, api.Errno) {
+	list, err := x.symbols(k, fuel)
+	if err != api.OK || len(list) == 0 {
+		return "", "", err
+	}
+	all := matrix.Of(1, 0, 0, 1)
+	for i := 0; i < len(list); i++ {
+		all = all.After(list[i].Matrix())
+	}
+	return all.OfNought().Text(), all.OfInfinity().Text(), api.OK
+}
 
 // Decimal tells the value times 10 to the n as a whole number (P15).
 func (x *Expr) Decimal(n int, fuel int) (string, api.Errno) { return "", api.OK }
