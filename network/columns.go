@@ -20,6 +20,11 @@ func pair(p int, q int) column {
 	return column{p: whole.Of(p), q: whole.Of(q)}
 }
 
+// plainColumns are those of a node that tells what it reads.
+func plainColumns() columns {
+	return columns{pair(1, 0), pair(0, 1)}
+}
+
 func (c column) isNought() bool {
 	return c.p.Sign() == 0 && c.q.Sign() == 0
 }
@@ -68,13 +73,22 @@ func (c columns) give(m matrix.Matrix) columns {
 
 // fit tells whether the columns fit (P9).
 func (c columns) fit() bool {
+	return c.fitAfter(matrix.Of(1, 0, 0, 1))
+}
+
+// fitAfter tells whether the columns fit when a symbol of the matrix m is given.
+// Of the numbers that they would have the signs will do.
+func (c columns) fitAfter(m matrix.Matrix) bool {
 	below := false
 	above := false
 	for i := 0; i < len(c); i++ {
-		p := c[i].p.Sign()
-		q := c[i].q.Sign()
+		p := whole.CompareProducts(m.D, c[i].p, m.B, c[i].q)
+		q := whole.CompareProducts(m.A, c[i].q, m.C, c[i].p)
 		below = below || p < 0 || q < 0
 		above = above || p > 0 || q > 0
+		if below && above {
+			return false
+		}
 	}
 	return below != above
 }

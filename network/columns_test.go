@@ -60,6 +60,11 @@ func TestP9Fits(t *testing.T) {
 		{four(-1, -2, -3, -4, 5, -6, -7, -8), false},
 		{four(0, 1, 0, -1, 0, 0, 0, 0), false},
 	} {
+		same := c.columns.give(matrix.Of(2, 1, 1, 3)).readRight(matrix.Of(1, 0, 0, 1))
+		back := matrix.Of(3, -1, -1, 2)
+		if same.fitAfter(back) != c.want {
+			t.Errorf("P9: %s fit after: %v", text(same), !c.want)
+		}
 		if c.columns.fit() != c.want {
 			t.Errorf("P9: %s fit: %v", text(c.columns), !c.want)
 		}
@@ -118,7 +123,7 @@ func TestP10Widths(t *testing.T) {
 		{four(-1, 0, -1, 0, 0, -1, 0, -1), 1},
 		{four(-1, 0, 0, -1, -1, 0, 0, -1), -1},
 	} {
-		if got := compareWidths(c.columns); got != c.want {
+		if got := compareWidths(c.columns, 1); got != c.want {
 			t.Errorf("P10: the widths of %s compare %d, want %d", text(c.columns), got, c.want)
 		}
 	}

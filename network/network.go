@@ -1,5 +1,5 @@
 // Package network makes a network of nodes of an expression, each of which tells
-// its number symbol by symbol (P8 to P11), and counts its steps (P13).
+// its number symbol by symbol (P8 to P12), and counts its steps (P13).
 package network
 
 import (
@@ -29,8 +29,7 @@ type Number struct {
 	fuel  *fuel
 }
 
-// New makes a number that may take so many steps: nil, if the expression has a
-// function, of which there are no nodes yet.
+// New makes a number that may take so many steps: nil of no expression.
 func New(part *plan.Part, steps int) *Number {
 	top := made(part)
 	if top == nil {
@@ -53,7 +52,7 @@ func (n *Number) Next() matrix.Symbol {
 	return symbol
 }
 
-// made makes the node of a part and those of all that stands in it (P11).
+// made makes the node of a part and those of all that stands in it (P11, P12).
 func made(part *plan.Part) *node {
 	if part == nil {
 		return nil
@@ -62,7 +61,9 @@ func made(part *plan.Part) *node {
 	case tree.Number:
 		return fractionNode(part.Value.Top, part.Value.Bottom)
 	case tree.Pi, tree.E, tree.Cf:
-		return &node{columns: columns{pair(1, 0), pair(0, 1)}, constant: part}
+		return constantNode(&constant{kind: part.Kind, terms: part.Terms})
+	case tree.Sqrt, tree.Exp, tree.Ln1p, tree.Atan:
+		return functionNode(part.Kind, part.Left)
 	case tree.Minus:
 		return minusNode(made(part.Left))
 	case tree.Add, tree.Subtract, tree.Multiply, tree.Divide:

@@ -2,18 +2,21 @@ package network
 
 import (
 	"reals/matrix"
-	"reals/plan"
+	"reals/tree"
 )
 
 // node tells a number symbol by symbol (P9).
 type node struct {
-	hasSign  bool
-	columns  columns
-	constant *plan.Part // whose matrices it reads; nil of a node that is no constant
-	matrices int        // how many of them it has read
-	left     argument
-	right    argument // a node of one argument has it here
-	given    []matrix.Symbol
+	hasSign   bool
+	columns   columns
+	constant  *constant // whose matrices it reads; nil of a node that is no constant
+	matrices  int       // how many of them it has read
+	left      argument
+	right     argument // a node of one argument has it here
+	given     []matrix.Symbol
+	unsettled tree.Kind // the function, till enough is known of its argument; else None
+	nests     *nests    // of which it is one; else nil
+	place     int       // among them
 }
 
 // argument is what a node reads of: no node, if there is none.
@@ -73,7 +76,7 @@ func (n *node) goOn(f *fuel) bool {
 
 // next tells the symbol that the node can give now, or None.
 func (n *node) next() matrix.Symbol {
-	if n.left.wantsSign() || n.right.wantsSign() {
+	if n.unsettled != tree.None || n.left.wantsSign() || n.right.wantsSign() {
 		return matrix.None
 	}
 	if n.hasSign && len(n.given) == 0 {
@@ -88,8 +91,7 @@ func (n *node) firstOf(list [4]matrix.Symbol) matrix.Symbol {
 		if list[i] == matrix.None {
 			return matrix.None
 		}
-		after := n.columns.give(list[i].Matrix())
-		if after.fit() {
+		if n.columns.fitAfter(list[i].Matrix()) {
 			return list[i]
 		}
 	}
@@ -102,13 +104,24 @@ func (n *node) readMore(f *fuel) bool {
 		return n.readConstant(f)
 	}
 	if n.readsLeft() {
-		symbol := n.left.unread(f)
-		if symbol == matrix.None || !f.step() {
-			return false
-		}
-		n.left.read++
-		n.columns = n.columns.readLeft(symbol.Matrix()).halved()
-		return true
+		return n.readLeft(f)
+	}
+	return n.readRight(f)
+}
+
+func (n *node) readLeft(f *fuel) bool {
+	symbol := n.left.unread(f)
+	if symbol == matrix.None || !f.step() {
+		return false
+	}
+	n.left.read++
+	n.columns = n.columns.readLeft(symbol.Matrix()).halved()
+	return true
+}
+
+func (n *node) readRight(f *fuel) bool {
+	if n.nests != nil && n.right.node == nil {
+		n.right.node = n.nests.nest(n.place + 1)
 	}
 	symbol := n.right.unread(f)
 	if symbol == matrix.None || !f.step() {
@@ -116,6 +129,7 @@ func (n *node) readMore(f *fuel) bool {
 	}
 	n.right.read++
 	n.columns = n.columns.readRight(symbol.Matrix()).halved()
+	n.settle()
 	return true
 }
 
@@ -123,7 +137,7 @@ func (n *node) readConstant(f *fuel) bool {
 	if !f.step() {
 		return false
 	}
-	next := constantMatrix(n.constant, n.matrices)
+	next := n.constant.matrix(n.matrices)
 	n.matrices++
 	n.columns = n.columns.readRight(next).halved()
 	return true
@@ -141,7 +155,7 @@ func (n *node) readsLeft() bool {
 		return false
 	}
 	if n.columns.fit() {
-		switch compareWidths(n.columns) {
+		switch compareWidths(n.columns, n.leftWeight()) {
 		case 1:
 			return true
 		case -1:
@@ -149,4 +163,12 @@ func (n *node) readsLeft() bool {
 		}
 	}
 	return n.left.digits() <= n.right.digits()
+}
+
+// leftWeight tells how often the left width counts (P10).
+func (n *node) leftWeight() int {
+	if n.nests != nil {
+		return 8
+	}
+	return 1
 }

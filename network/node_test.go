@@ -69,9 +69,9 @@ func TestP11Constants(t *testing.T) {
 		{"cf[7; 5]", []matrix.Matrix{matrix.Of(7, 1, 1, 0), matrix.Of(5, 1, 1, 0), matrix.Of(5, 1, 1, 0)}},
 		{"cf[0; 1, 2, 3]", []matrix.Matrix{matrix.Of(0, 1, 1, 0), matrix.Of(1, 1, 1, 0), matrix.Of(2, 1, 1, 0), matrix.Of(3, 1, 1, 0), matrix.Of(1, 1, 1, 0), matrix.Of(2, 1, 1, 0), matrix.Of(3, 1, 1, 0), matrix.Of(1, 1, 1, 0)}},
 	} {
-		part := planned(t, c.s)
+		n := made(planned(t, c.s))
 		for k, want := range c.want {
-			got := constantMatrix(part, k)
+			got := n.constant.matrix(k)
 			if got.A.Compare(want.A) != 0 || got.B.Compare(want.B) != 0 || got.C.Compare(want.C) != 0 || got.D.Compare(want.D) != 0 {
 				t.Errorf("P11: matrix %d of %s is (%s %s; %s %s)", k, c.s, got.A.Text(), got.B.Text(), got.C.Text(), got.D.Text())
 			}
@@ -204,10 +204,8 @@ func TestNoNode(t *testing.T) {
 	if minusNode(nil) != nil || operationNode(tree.Add, nil, nil) != nil {
 		t.Errorf("a node of nothing")
 	}
-	for _, s := range []string{"sqrt(2)", "pi + sqrt(2)", "sqrt(2) + pi", "-exp(e)"} {
-		if New(planned(t, s), 10) != nil {
-			t.Errorf("a number of %s", s)
-		}
+	if functionNode(tree.Sqrt, nil) != nil || functionNode(tree.Exp, &plan.Part{}) != nil {
+		t.Errorf("a function of nothing")
 	}
 	n := &node{columns: columns{pair(0, 0)}}
 	if got := n.symbol(0, &fuel{left: 10}); got != matrix.None {

@@ -2,14 +2,14 @@ package network
 
 import "reals/whole"
 
-// compareWidths tells -1, 0 or 1, as LEFT is below RIGHT, equal or above (P10),
-// of columns that fit. All widths are taken times the same number above 0: the
+// compareWidths tells -1, 0 or 1, as LEFT so many times is below RIGHT, equal or
+// above (P10), of columns that fit. All widths are taken times the same number above 0: the
 // product of all four sums p + q. (p - q)/(p + q) - (r - s)/(r + s) times
 // (p + q)(r + s) is 2 (p s - q r).
-func compareWidths(c columns) int {
+func compareWidths(c columns, times int) int {
 	left := greater(scaled(c[0], c[2], c[1], c[3]), scaled(c[1], c[3], c[0], c[2]))
 	right := greater(scaled(c[0], c[1], c[2], c[3]), scaled(c[2], c[3], c[0], c[1]))
-	return left.Compare(right)
+	return left.Times(whole.Of(times)).Compare(right)
 }
 
 // scaled tells half the width of u and v times the sums of all four columns.

@@ -183,14 +183,88 @@ func TestP1NoExpressionToAsk(t *testing.T) {
 	}
 }
 
-// There are no nodes of functions yet: where one is left nothing is told, and
-// the errors that go ahead of that are.
-func TestFunctionsTellNothing(t *testing.T) {
-	for _, s := range []string{"sqrt(2)", "1 + exp(1)", "atan(pi)*e", "-ln1p(2)", "sqrt(exp(2) - pi)", "pi/(1 - sqrt(4))"} {
-		refused(t, s, 6, 3000, api.OK)
-		refused(t, s, 0, 0, api.OK)
-		refused(t, s, -1, 3000, api.ErrArg)
-		refused(t, s+"/0", 6, 3000, api.ErrDomain)
+// The document's examples with functions.
+func TestP12Examples(t *testing.T) {
+	for _, c := range []struct {
+		s                 string
+		k                 int
+		digits, low, high string
+		steps             int
+	}{
+		{"sqrt(2)", 6, "++--+-+", "37/27", "19/13", 7},
+		{"exp(1)", 4, "++000", "23/9", "25/7", 16},
+		{"ln1p(1)", 10, "+-++-00+0-0", "837/1211", "839/1209", 15},
+		{"atan(5)", 4, "+0+-0", "17/15", "19/13", 13},
+		{"sqrt(pi)", 6, "++0----", "5/3", "41/23", 40},
+		{"exp(pi)", 4, "+++++", "15/1", "1/0", 65},
+		{"ln1p(e - 2)", 4, "+0-0-", "5/11", "3/5", 149},
+		{"atan(pi)", 6, "+0+-00-", "35/29", "9/7", 85},
+		{"exp(ln1p(1))", 4, "++0--", "5/3", "11/5", 99},
+	} {
+		x := read(t, c.s)
+		checkTold(t, x, c.s, c.k, c.steps, c.digits)
+		if a, b, err := x.Encloses(c.k, 3000); a != c.low || b != c.high || err != api.OK {
+			t.Errorf("Encloses of %q = %q, %q, %d, want %q, %q", c.s, a, b, err, c.low, c.high)
+		}
+		for fuel := 0; fuel < c.steps; fuel++ {
+			refused(t, c.s, c.k, fuel, api.ErrFuel)
+		}
+	}
+}
+
+// P12: a function's node has no sign, so that the sign of it takes no step.
+func TestP12NoSign(t *testing.T) {
+	for _, s := range []string{"sqrt(2)", "exp(1)", "ln1p(1/2)", "atan(3)", "sqrt(pi)", "exp(e - pi)", "ln1p(-pi)", "atan(1 - pi)", "exp(1)*sqrt(pi - 7)"} {
+		if got, err := read(t, s).Digits(0, 0); got != "+" || err != api.OK {
+			t.Errorf("P12: Digits of %q = %q, %d", s, got, err)
+		}
+	}
+}
+
+// P12: of what is below 0, or may be, no digit ever comes.
+func TestP12OfNothing(t *testing.T) {
+	for _, s := range []string{"sqrt(1 - pi)", "exp(-pi)", "ln1p(e - pi)", "atan(-sqrt(2))", "sqrt(pi - pi)", "exp(e - e)", "ln1p(pi - pi)", "atan(sqrt(4) - 2)", "sqrt(0*pi)", "1 + sqrt(3 - pi)"} {
+		for _, fuel := range []int{0, 1, 2, 10, 100, 1000, 2999, 3000} {
+			refused(t, s, 1, fuel, api.ErrFuel)
+		}
+		refused(t, s, 61, 3000, api.ErrArg)
+		refused(t, s, 1, 3001, api.ErrArg)
+	}
+	// What is 0 and tells so is no trouble but to sqrt, nor is infinity to atan.
+	for _, c := range []struct{ s, want string }{
+		{"exp(0*pi)", "++------"},
+		{"ln1p(0*pi)", "+-------"},
+		{"atan(0*pi)", "+-------"},
+		{"atan(1/(0*pi))", "++-0-+00"},
+	} {
+		if got, err := read(t, c.s).Digits(7, 3000); got != c.want || err != api.OK {
+			t.Errorf("P12: Digits of %q = %q, %d, want %q", c.s, got, err, c.want)
+		}
+	}
+}
+
+// P7, P12: a function of a fraction below 0 is an error wherever it stands.
+func TestP12Domain(t *testing.T) {
+	for _, s := range []string{"sqrt(-1)", "ln1p(1/2 - 1)", "atan(-1/9)", "exp(0 - 1)", "pi + sqrt(2 - 3)", "exp(pi*ln1p(-1/1000000))", "sqrt(-pi + sqrt(-1))", "sqrt(sqrt(0) - exp(0))"} {
+		refused(t, s, 3, 3000, api.ErrDomain)
+		refused(t, s, 0, 0, api.ErrDomain)
+		refused(t, s, -1, 0, api.ErrArg)
+	}
+}
+
+// P1: numbers that are as great, or as near to 0, as an expression has room for.
+func TestP1GreatFunctions(t *testing.T) {
+	great := strings.Repeat("999999999*", 10) + "999999999"
+	small := "1/" + strings.Repeat("999999999/", 9) + "999999999"
+	for _, name := range []string{"sqrt", "exp", "ln1p", "atan"} {
+		for _, of := range []string{great, small, "pi*" + great[10:], "e*(" + small[:len(small)-10] + ")"} {
+			x := read(t, name+"("+of+")")
+			a, err := x.Digits(5, 400)
+			b, again := x.Digits(5, 400)
+			if a != b || err != again || err != api.OK && err != api.ErrFuel {
+				t.Errorf("P1: Digits of %q = %q, %d, then %q, %d", x.Text(), a, err, b, again)
+			}
+		}
 	}
 }
 
@@ -215,14 +289,69 @@ func arc(n int) *big.Float {
 	return sum
 }
 
+// approximateFunction tells a function's value by its series; false, if it is of
+// what may be 0 or less, or if it is too great.
+func approximateFunction(kind tree.Kind, x *big.Float) (*big.Float, bool) {
+	if kind == tree.Exp && x.Sign() == 0 {
+		return float(1), true
+	}
+	if x.Sign() <= 0 || x.MantExp(nil) < -100 || kind == tree.Exp && x.Cmp(float(10000)) > 0 {
+		return x, kind != tree.Exp && x.Sign() == 0
+	}
+	add := func(x, y *big.Float) *big.Float { return new(big.Float).Add(x, y) }
+	switch kind {
+	case tree.Sqrt:
+		return new(big.Float).Sqrt(x), true
+	case tree.Exp:
+		// exp(x) is exp(x/2^30) squared 30 times.
+		small := new(big.Float).SetMantExp(x, -30)
+		sum, term := float(0), float(1)
+		for k := 1; k < 100; k++ {
+			sum = add(sum, term)
+			term = new(big.Float).Quo(new(big.Float).Mul(term, small), float(k))
+		}
+		for k := 0; k < 30; k++ {
+			sum = new(big.Float).Mul(sum, sum)
+		}
+		return sum, true
+	case tree.Ln1p:
+		// ln(y) is 2^20 times ln of the root of y taken 20 times; and
+		// ln(y) is 2 (u + u^3/3 + u^5/5 ..), u being (y - 1)/(y + 1).
+		y := add(float(1), x)
+		for k := 0; k < 20; k++ {
+			y = new(big.Float).Sqrt(y)
+		}
+		u := new(big.Float).Quo(add(y, float(-1)), add(y, float(1)))
+		return new(big.Float).SetMantExp(series(u, false), 21), true
+	}
+	// atan(x) is twice atan(x/(1 + sqrt(1 + x x))).
+	for k := 0; k < 10; k++ {
+		root := new(big.Float).Sqrt(add(float(1), new(big.Float).Mul(x, x)))
+		x = new(big.Float).Quo(x, add(float(1), root))
+	}
+	return new(big.Float).SetMantExp(series(x, true), 10), true
+}
+
+// series tells u + u^3/3 + u^5/5 .., or with every second term below 0.
+func series(u *big.Float, turns bool) *big.Float {
+	sum, power := float(0), u
+	square := new(big.Float).Mul(u, u)
+	for k := 1; k < 300; k += 2 {
+		sum = new(big.Float).Add(sum, new(big.Float).Quo(power, float(k)))
+		power = new(big.Float).Mul(power, square)
+		if turns {
+			power.Neg(power)
+		}
+	}
+	return sum
+}
+
 // approximate tells a value by ways of its own; false, if something is divided
 // by what may be 0.
 func approximate(n *tree.Node, pi, e *big.Float) (*big.Float, bool) {
 	switch n.Kind {
 	case tree.Number:
 		return float(n.Value), true
-	case tree.Exp:
-		return float(1), true // exp(0) is the only function here
 	case tree.Pi:
 		return pi, true
 	case tree.E:
@@ -241,6 +370,9 @@ func approximate(n *tree.Node, pi, e *big.Float) (*big.Float, bool) {
 	left, ok := approximate(n.Left, pi, e)
 	if n.Kind == tree.Minus || !ok {
 		return new(big.Float).Neg(left), ok
+	}
+	if n.Right == nil {
+		return approximateFunction(n.Kind, left)
 	}
 	right, ok := approximate(n.Right, pi, e)
 	switch {
@@ -261,15 +393,32 @@ func approximate(n *tree.Node, pi, e *big.Float) (*big.Float, bool) {
 
 // P8, P14: whatever is told of a value, it lies between the two ends.
 func TestP14Sound(t *testing.T) {
+	signs := sound(t, &drawn{seed: 11}, 1000)
+	for _, sign := range "+-ow" {
+		if n := strings.Count(signs, string(sign)); n < 10 {
+			t.Errorf("only %d cases of the sign %c", n, sign)
+		}
+	}
+}
+
+// P12: and so does the value of a function.
+func TestP12Sound(t *testing.T) {
+	signs := sound(t, &drawn{seed: 12, functions: true}, 1500)
+	if len(signs) < 500 {
+		t.Errorf("only %d cases", len(signs))
+	}
+}
+
+// sound tells the signs of the numbers that it saw.
+func sound(t *testing.T, d *drawn, cases int) string {
 	pi := new(big.Float).Sub(new(big.Float).Mul(float(16), arc(5)), new(big.Float).Mul(float(4), arc(239)))
 	e, term := float(0), float(1)
 	for k := 1; k < 400; k++ {
 		e.Add(e, term)
 		term.Quo(term, float(k))
 	}
-	d := &drawn{seed: 11}
 	signs := ""
-	for i := 0; i < 1000; i++ {
+	for i := 0; i < cases; i++ {
 		s := d.expression(1 + i%3)
 		if i%10 == 0 {
 			s = "(" + s + ")/(pi - 22/7)"
@@ -297,11 +446,7 @@ func TestP14Sound(t *testing.T) {
 			t.Errorf("P14: Encloses of %q: (%d) = %s, %s, but it is %s", s, k, a, b, value.Text('g', 60))
 		}
 	}
-	for _, sign := range "+-ow" {
-		if n := strings.Count(signs, string(sign)); n < 15 {
-			t.Errorf("only %d cases of the sign %c", n, sign)
-		}
-	}
+	return signs
 }
 
 // between tells whether a value lies between the two ends that Encloses told.

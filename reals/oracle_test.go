@@ -49,6 +49,10 @@ type machine struct {
 	k     int
 	given []string
 	steps *int // of the whole network
+
+	nest  bool
+	after func() *machine // makes the right argument of a nest
+	turns func()          // of a function's node: looks whether enough is known
 }
 
 func comb(a, u, c, v *big.Int) *big.Int {
@@ -87,6 +91,9 @@ func fits(cols []col) bool {
 }
 
 func (m *machine) can() string {
+	if m.turns != nil {
+		return ""
+	}
 	for i, a := range m.args {
 		if a.sign && m.read[i] == 0 {
 			return ""
@@ -139,6 +146,9 @@ func (m *machine) side() int {
 		c := m.cols
 		left := most(width(c[0], c[2]), width(c[1], c[3]))
 		right := most(width(c[0], c[1]), width(c[2], c[3]))
+		if m.nest {
+			left.Mul(left, big.NewRat(8, 1))
+		}
 		switch left.Cmp(right) {
 		case 1:
 			return 0
@@ -177,6 +187,9 @@ func (m *machine) wanted(place, mostSteps int) (string, bool) {
 			continue
 		}
 		i := m.side()
+		if i == len(m.args) {
+			m.args = append(m.args, m.after())
+		}
 		s, ok := m.args[i].wanted(m.read[i], mostSteps)
 		if !ok {
 			return "", false
@@ -192,6 +205,9 @@ func (m *machine) wanted(place, mostSteps int) (string, bool) {
 		default:
 			m.absorb(0, 1, matrixOf(s))
 			m.absorb(2, 3, matrixOf(s))
+		}
+		if m.turns != nil {
+			m.turns()
 		}
 	}
 	return m.given[place], *m.steps <= mostSteps
@@ -278,6 +294,13 @@ func build(n *tree.Node, steps *int) *machine {
 		m.terms = terms(n)
 		return m
 	}
+	switch n.Kind {
+	case tree.Sqrt, tree.Exp, tree.Ln1p, tree.Atan:
+		if r, _ := ratio(n.Left); r != nil {
+			return ofRatio(n.Kind, r, steps)
+		}
+		return function(n.Kind, build(n.Left, steps))
+	}
 	m.args = append(m.args, build(n.Left, steps))
 	if n.Kind == tree.Minus {
 		m.sign = true
@@ -299,6 +322,143 @@ func build(n *tree.Node, steps *int) *machine {
 		m.cols = pairs(0, 0, 1, 0, 0, 1, 0, 0)
 	}
 	return m
+}
+
+// nearby is NEAR.
+func nearby(r *big.Rat) (a, b *big.Int) {
+	for b = big.NewInt(1); ; b.Lsh(b, 1) {
+		product := new(big.Rat).Mul(r, new(big.Rat).SetInt(new(big.Int).Mul(b, b)))
+		cut := new(big.Int).Quo(product.Num(), product.Denom())
+		if a = new(big.Int).Sqrt(cut); a.Cmp(big.NewInt(16)) >= 0 {
+			return a, b
+		}
+	}
+}
+
+// cd is c and d; T goes by the name of exp.
+func cd(kind tree.Kind, k int64) (int64, int64) {
+	switch {
+	case kind == tree.Exp:
+		return 1, 4*k + 2
+	case k == 0:
+		return 1, 1
+	case kind == tree.Atan:
+		return k * k, 2*k + 1
+	}
+	return ((k + 1) / 2) * ((k + 1) / 2), k + 1
+}
+
+func raise(t *machine) *machine {
+	return &machine{cols: pairs(1, -1, 1, 1), args: []*machine{t}, read: []int{0}, steps: t.steps}
+}
+
+func ofRatio(kind tree.Kind, r *big.Rat, steps *int) *machine {
+	m := &machine{cols: pairs(1, 0, 0, 1), steps: steps}
+	p, q := r.Num(), r.Denom()
+	times := func(x, y *big.Int) *big.Int { return new(big.Int).Mul(x, y) }
+	if kind == tree.Sqrt {
+		a, b := nearby(r)
+		m.terms = func(k int) matrix2 { return matrix2{times(a, q), times(b, p), times(b, q), times(a, q)} }
+		return m
+	}
+	m.terms = func(k int) matrix2 {
+		x, y := p, q
+		if kind != tree.Ln1p && k > 0 {
+			x, y = times(p, p), times(q, q)
+		}
+		c, d := cd(kind, int64(k))
+		return matrix2{big.NewInt(0), times(big.NewInt(c), x), y, times(big.NewInt(d), y)}
+	}
+	if kind == tree.Exp {
+		return raise(m)
+	}
+	return m
+}
+
+func function(kind tree.Kind, x *machine) *machine {
+	if x.sign {
+		x = &machine{cols: pairs(1, 0, 0, 1), args: []*machine{x}, read: []int{0}, steps: x.steps}
+	}
+	f := &machine{cols: pairs(1, 0, 0, 1), args: []*machine{x}, read: []int{0}, steps: x.steps}
+	f.turns = func() {
+		high := new(big.Rat).SetInt64(-1) // infinity
+		if f.cols[0][1].Sign() != 0 {
+			high = new(big.Rat).SetFrac(f.cols[0][0], f.cols[0][1])
+		}
+		low := new(big.Rat).SetFrac(f.cols[1][0], f.cols[1][1])
+		if known(kind, low, high) {
+			*f = *turned(kind, x, low)
+		}
+	}
+	return f
+}
+
+// known is ENOUGH, divided by h' l'.
+func known(kind tree.Kind, low, high *big.Rat) bool {
+	one, four := big.NewRat(1, 1), big.NewRat(4, 1)
+	if high.Sign() < 0 {
+		return kind == tree.Atan && low.Cmp(four) >= 0
+	}
+	if kind == tree.Sqrt {
+		return high.Cmp(new(big.Rat).Add(low, low)) <= 0
+	}
+	bound := one
+	if kind == tree.Ln1p {
+		bound = new(big.Rat).Add(one, low)
+	}
+	if kind == tree.Atan {
+		bound = new(big.Rat).Add(one, new(big.Rat).Mul(high, low))
+	}
+	apart := new(big.Rat).Sub(high, low)
+	return apart.Mul(apart, four).Cmp(bound) <= 0
+}
+
+func turned(kind tree.Kind, x *machine, low *big.Rat) *machine {
+	none := new(big.Int)
+	if kind == tree.Sqrt {
+		a, b := nearby(low)
+		var another func() *machine
+		another = func() *machine {
+			return &machine{nest: true, cols: []col{{none, none}, {b, none}, {a, b}, {none, a}}, args: []*machine{x}, read: []int{0, 0}, after: another, steps: x.steps}
+		}
+		return another()
+	}
+	l, under := low.Num(), low.Denom()
+	minus := new(big.Int).Neg(l)
+	z := &machine{args: []*machine{x}, read: []int{0}, steps: x.steps}
+	switch {
+	case l.Sign() == 0:
+		z = x
+	case kind == tree.Exp:
+		z.cols = []col{{under, none}, {minus, under}}
+	case kind == tree.Ln1p:
+		z.cols = []col{{under, none}, {minus, new(big.Int).Add(l, under)}}
+	case kind == tree.Atan:
+		z.cols = []col{{under, l}, {minus, under}}
+	}
+	square := &machine{cols: pairs(1, 0, 0, 0, 0, 0, 0, 1), args: []*machine{z, z}, read: []int{0, 0}, steps: x.steps}
+	var nest func(k int64) *machine
+	nest = func(k int64) *machine {
+		c, d := cd(kind, k)
+		left := z
+		if kind != tree.Ln1p && k > 0 {
+			left = square
+		}
+		return &machine{nest: true, cols: pairs(0, 0, c, 0, 0, 1, 0, d), args: []*machine{left}, read: []int{0, 0}, after: func() *machine { return nest(k + 1) }, steps: x.steps}
+	}
+	r := nest(0)
+	if kind == tree.Exp {
+		r = raise(r)
+	}
+	if l.Sign() == 0 {
+		return &machine{cols: pairs(1, 0, 0, 1), args: []*machine{r}, read: []int{0}, steps: x.steps}
+	}
+	f := &machine{args: []*machine{ofRatio(kind, low, x.steps), r}, read: []int{0, 0}, steps: x.steps}
+	f.cols = pairs(0, 0, 1, 0, 1, 0, 0, 1)
+	if kind == tree.Exp {
+		f.cols = pairs(1, 0, 0, 0, 0, 0, 0, 1)
+	}
+	return f
 }
 
 // told tells what Digits ought to, for k from 0 on, as far as so many steps do,
@@ -345,7 +505,10 @@ func ends(digits string) (string, string) {
 }
 
 // drawn makes expressions by a fixed rule.
-type drawn struct{ seed uint64 }
+type drawn struct {
+	seed      uint64
+	functions bool
+}
 
 func (d *drawn) below(n int) int {
 	d.seed = d.seed*6364136223846793005 + 1442695040888963407
@@ -358,8 +521,13 @@ func (d *drawn) expression(depth int) string {
 		return leaves[d.below(len(leaves))]
 	}
 	left := d.expression(depth - 1)
-	if d.below(6) == 0 {
+	switch d.below(12) {
+	case 0, 1:
 		return "-(" + left + ")"
+	case 2, 3, 4, 5:
+		if d.functions {
+			return []string{"sqrt", "exp", "ln1p", "atan"}[d.below(4)] + "(" + left + ")"
+		}
 	}
 	right := d.expression(depth - 1)
 	return "(" + left + ")" + []string{"+", "-", "*", "/"}[d.below(4)] + "(" + right + ")"
@@ -367,9 +535,23 @@ func (d *drawn) expression(depth int) string {
 
 // P7 to P11, P13, P14: signs, digits, ends, steps, as the document's words have them.
 func TestAgainstTheWords(t *testing.T) {
-	d := &drawn{seed: 5}
-	short, domains, dry := 0, 0, 0
-	for i := 0; i < 1000; i++ {
+	short, domains, dry := againstTheWords(t, &drawn{seed: 5}, 1000, 300)
+	if short < 1500 || domains < 20 || dry < 20 {
+		t.Errorf("only %d, %d, %d cases", short, domains, dry)
+	}
+}
+
+// P12, and P13 and P14 with functions.
+func TestP12AgainstTheWords(t *testing.T) {
+	short, domains, dry := againstTheWords(t, &drawn{seed: 6, functions: true}, 1000, 600)
+	if short < 1500 || domains < 30 || dry < 100 {
+		t.Errorf("only %d, %d, %d cases", short, domains, dry)
+	}
+}
+
+// againstTheWords tells how many answers, domain errors and fuel errors it saw.
+func againstTheWords(t *testing.T, d *drawn, cases, fuel int) (short, domains, dry int) {
+	for i := 0; i < cases; i++ {
 		s := d.expression(1 + i%4)
 		root, err, _ := tree.Read(s)
 		if err != api.OK {
@@ -384,12 +566,12 @@ func TestAgainstTheWords(t *testing.T) {
 			continue
 		}
 		k := []int{0, 1, 4, 12, 30}[d.below(5)]
-		texts, counts := told(root, k, 300)
+		texts, counts := told(root, k, fuel)
 		for n := 0; n <= k; n++ {
 			if n >= len(texts) {
 				dry++
-				if got, err := x.Digits(n, 300); got != "" || err != api.ErrFuel {
-					t.Errorf("P13: Digits of %q: (%d, 300) = %q, %d", s, n, got, err)
+				if got, err := x.Digits(n, fuel); got != "" || err != api.ErrFuel {
+					t.Errorf("P13: Digits of %q: (%d, %d) = %q, %d", s, n, fuel, got, err)
 				}
 				break
 			}
@@ -400,9 +582,7 @@ func TestAgainstTheWords(t *testing.T) {
 			checkTold(t, x, s, n, counts[n], texts[n])
 		}
 	}
-	if short < 1500 || domains < 30 || dry < 20 {
-		t.Errorf("only %d, %d, %d cases", short, domains, dry)
-	}
+	return short, domains, dry
 }
 
 func checkTold(t *testing.T, x *reals.Expr, s string, k, fuel int, digits string) {

@@ -45,7 +45,7 @@ func (x *Expr) Digits(k int, fuel int) (string, api.Errno) {
 // Encloses tells between what the value lies by the sign and k digits (P14).
 func (x *Expr) Encloses(k int, fuel int) (string, string, api.Errno) {
 	list, err := x.symbols(k, fuel)
-	if err != api.OK || len(list) == 0 {
+	if err != api.OK {
 		return "", "", err
 	}
 	all := matrix.Of(1, 0, 0, 1)

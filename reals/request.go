@@ -15,8 +15,7 @@ func (x *Expr) begin(asked int, fuel int) (*plan.Part, api.Errno) {
 	return plan.Of(x.root)
 }
 
-// symbols tells the sign of the whole (Plus, if it has none) and k digits. The
-// list is empty if a function stands in the expression.
+// symbols tells the sign of the whole (Plus, if it has none) and k digits.
 func (x *Expr) symbols(k int, fuel int) ([]matrix.Symbol, api.Errno) {
 	part, err := x.begin(k, fuel)
 	if err != api.OK {
@@ -24,7 +23,7 @@ func (x *Expr) symbols(k int, fuel int) ([]matrix.Symbol, api.Errno) {
 	}
 	number := network.New(part, fuel)
 	if number == nil {
-		return nil, api.OK
+		return nil, api.ErrArg
 	}
 	list := []matrix.Symbol{}
 	if !number.HasSign() {

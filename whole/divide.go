@@ -86,6 +86,26 @@ func CommonFactor(a Int, b Int) Int {
 	return greater
 }
 
+// Root tells the root of a, cut down to a whole number; 0 of a below 0.
+func (a Int) Root() Int {
+	if a.Sign() <= 0 {
+		return Int{}
+	}
+	// By Newton's way, from a power of two that is above the root: it goes down
+	// till it is the root cut, and not below that.
+	above := shiftUp(limbsOf(1), (bitLength(a.limbs)+1)/2)
+	root := Int{limbs: above}
+	for root.Sign() > 0 {
+		quotient, _ := a.Divided(root)
+		better := root.Plus(quotient).Halved(1)
+		if better.Compare(root) >= 0 {
+			return root
+		}
+		root = better
+	}
+	return root
+}
+
 // Nine decimal places are as many as a limb has room for.
 const (
 	places   = 9

@@ -19,6 +19,10 @@ func used(limbs []uint32) int {
 	return n
 }
 
+func isOne(limbs []uint32) bool {
+	return len(limbs) == 1 && limbs[0] == 1
+}
+
 func compareLimbs(a []uint32, b []uint32) int {
 	if len(a) < len(b) {
 		return -1
@@ -78,16 +82,25 @@ func subtractLimbs(a []uint32, b []uint32) []uint32 {
 }
 
 func multiplyLimbs(a []uint32, b []uint32) []uint32 {
+	// The inner loop is the faster one, so it takes the longer number.
+	short := a
+	long := b
+	if len(a) > len(b) {
+		short = b
+		long = a
+	}
 	product := make([]uint32, len(a)+len(b))
-	for i := 0; i < len(a); i++ {
+	for i := 0; i < len(short); i++ {
+		row := product[i : i+len(long)]
+		factor := uint64(short[i])
 		carry := uint64(0)
-		for j := 0; j < len(b); j++ {
+		for j := 0; j < len(long) && j < len(row); j++ {
 			// At the most (2^32 - 1)^2 + 2 (2^32 - 1), which is 2^64 - 1.
-			carry += uint64(a[i])*uint64(b[j]) + uint64(product[i+j])
-			product[i+j] = uint32(carry)
+			carry += factor*uint64(long[j]) + uint64(row[j])
+			row[j] = uint32(carry)
 			carry >>= 32
 		}
-		product[i+len(b)] = uint32(carry)
+		product[i+len(long)] = uint32(carry)
 	}
 	return product[:used(product)]
 }

@@ -77,7 +77,47 @@ func (a Int) Times(b Int) Int {
 	if len(a.limbs) == 0 || len(b.limbs) == 0 {
 		return Int{}
 	}
-	return Int{below: a.below != b.below, limbs: multiplyLimbs(a.limbs, b.limbs)}
+	below := a.below != b.below
+	if isOne(a.limbs) {
+		return Int{below: below, limbs: b.limbs}
+	}
+	if isOne(b.limbs) {
+		return Int{below: below, limbs: a.limbs}
+	}
+	return Int{below: below, limbs: multiplyLimbs(a.limbs, b.limbs)}
+}
+
+// CompareProducts tells -1, 0 or 1, as a * b is less than c * d, equal or greater.
+func CompareProducts(a Int, b Int, c Int, d Int) int {
+	sign := a.Sign() * b.Sign()
+	other := c.Sign() * d.Sign()
+	if sign < other {
+		return -1
+	}
+	if sign > other {
+		return 1
+	}
+	return sign * compareSizes(a, b, c, d)
+}
+
+// compareSizes compares the sizes of a * b and c * d. It multiplies only where
+// their lengths and their first factors do not tell.
+func compareSizes(a Int, b Int, c Int, d Int) int {
+	// A product has as many bits as its factors together, or one less.
+	bits := bitLength(a.limbs) + bitLength(b.limbs)
+	others := bitLength(c.limbs) + bitLength(d.limbs)
+	if bits < others-1 {
+		return -1
+	}
+	if bits > others+1 {
+		return 1
+	}
+	if compareLimbs(a.limbs, c.limbs) == 0 {
+		return compareLimbs(b.limbs, d.limbs)
+	}
+	product := multiplyLimbs(a.limbs, b.limbs)
+	otherProduct := multiplyLimbs(c.limbs, d.limbs)
+	return compareLimbs(product, otherProduct)
 }
 
 // Twos tells how often a can be halved; 0 of 0.
@@ -95,7 +135,8 @@ func (a Int) Twos() int {
 	return 0
 }
 
-// Halved tells a/2^times, where that is whole. Of times below 1 it is a.
+// Halved tells a/2^times, its size cut to a whole number. Of times below 1 it
+// is a.
 func (a Int) Halved(times int) Int {
 	if times < 1 {
 		return a

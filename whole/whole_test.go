@@ -87,6 +87,57 @@ func TestOne(t *testing.T) {
 	}
 }
 
+func TestRoot(t *testing.T) {
+	check := func(a *big.Int) {
+		want := new(big.Int)
+		if a.Sign() > 0 {
+			want.Sqrt(a)
+		}
+		same(t, "the root of "+a.String(), fromBig(a).Root(), want)
+	}
+	for n := int64(-3); n < 1100; n++ {
+		check(big.NewInt(n))
+	}
+	one := big.NewInt(1)
+	for _, a := range samples() {
+		check(a)
+		square := new(big.Int).Mul(a, a)
+		check(square)
+		check(new(big.Int).Sub(square, one))
+		check(new(big.Int).Add(square, one))
+	}
+}
+
+func TestCompareProducts(t *testing.T) {
+	small := []int64{-3, -2, -1, 0, 1, 2, 3, 7, 8}
+	list := []*big.Int{}
+	for i, n := range samples() {
+		if i%3 == 0 {
+			list = append(list, n)
+		}
+	}
+	for i, b := range list {
+		for j, d := range list {
+			a := big.NewInt(small[(i+j)%len(small)])
+			for _, n := range small {
+				c := big.NewInt(n)
+				want := new(big.Int).Mul(a, b).Cmp(new(big.Int).Mul(c, d))
+				if got := CompareProducts(fromBig(a), fromBig(b), fromBig(c), fromBig(d)); got != want {
+					t.Fatalf("%s * %s and %s * %s compare %d", a, b, c, d, got)
+				}
+				// Equal products of other factors, and next to them.
+				product := fromBig(b).Times(fromBig(c))
+				if got := CompareProducts(fromBig(b), fromBig(c), Of(1), product); got != 0 {
+					t.Fatalf("%s * %s and their product compare %d", b, c, got)
+				}
+				if got := CompareProducts(Of(-1), product.Plus(Of(1)), fromBig(b).Negated(), fromBig(c)); got != -1 {
+					t.Fatalf("-(%s * %s) and 1 less compare %d", b, c, got)
+				}
+			}
+		}
+	}
+}
+
 func TestTwo(t *testing.T) {
 	list := samples()
 	for _, a := range list {
