@@ -59,6 +59,25 @@ func (f Fraction) Over(g Fraction) Fraction {
 	return Lowest(f.Top.Times(g.Bottom), f.Bottom.Times(g.Top))
 }
 
+// Compare tells -1, 0 or 1, as f is less than g, equal or greater.
+func (f Fraction) Compare(g Fraction) int {
+	return f.Minus(g).Sign()
+}
+
+// Terms tells the terms of the continued fraction, k of them at the most.
+func (f Fraction) Terms(k int) []whole.Int {
+	list := []whole.Int{}
+	top := f.Top
+	bottom := f.Bottom
+	for len(list) < k && bottom.Sign() > 0 {
+		term, rest := top.Divided(bottom)
+		list = append(list, term)
+		top = bottom
+		bottom = rest
+	}
+	return list
+}
+
 // Text writes the fraction, its denominator too if that is 1.
 func (f Fraction) Text() string {
 	return f.Top.Text() + "/" + f.Bottom.Text()

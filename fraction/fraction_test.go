@@ -28,6 +28,9 @@ func TestOperations(t *testing.T) {
 				same(t, "Plus", x.Plus(y), new(big.Rat).Add(wantX, wantY))
 				same(t, "Minus", x.Minus(y), new(big.Rat).Sub(wantX, wantY))
 				same(t, "Times", x.Times(y), new(big.Rat).Mul(wantX, wantY))
+				if got := x.Compare(y); got != wantX.Cmp(wantY) {
+					t.Errorf("%s compared to %s: %d", x.Text(), y.Text(), got)
+				}
 				if c != 0 {
 					same(t, "Over", x.Over(y), new(big.Rat).Quo(wantX, wantY))
 				}
@@ -46,5 +49,38 @@ func TestInfinity(t *testing.T) {
 	}
 	if got := Lowest(whole.Of(0), whole.Of(-5)).Text(); got != "0/1" {
 		t.Errorf("0/-5 = %s", got)
+	}
+}
+
+// P16: the terms of a fraction, as many as there are or are wanted.
+func TestTerms(t *testing.T) {
+	for _, c := range []struct {
+		top, bottom, k int
+		want           string
+	}{
+		{0, 1, 5, "0 "},
+		{0, 1, 0, ""},
+		{3, 1, 6, "3 "},
+		{-3, 1, 6, "-3 "},
+		{7, 2, 5, "3 2 "},
+		{-7, 2, 5, "-4 2 "},
+		{-7, 2, 1, "-4 "},
+		{-1, 3, 9, "-1 1 2 "},
+		{355, 113, 6, "3 7 16 "},
+		{355, 113, 3, "3 7 16 "},
+		{355, 113, 2, "3 7 "},
+		{355, 113, 0, ""},
+		{355, 113, -1, ""},
+		{1, 1000, 3, "0 1000 "},
+		{8, 5, 60, "1 1 1 2 "},
+	} {
+		got := ""
+		list := Lowest(whole.Of(c.top), whole.Of(c.bottom)).Terms(c.k)
+		for i := range list {
+			got += list[i].Text() + " "
+		}
+		if got != c.want {
+			t.Errorf("P16: %d terms of %d/%d are %q, want %q", c.k, c.top, c.bottom, got, c.want)
+		}
 	}
 }

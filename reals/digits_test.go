@@ -409,14 +409,20 @@ func TestP12Sound(t *testing.T) {
 	}
 }
 
-// sound tells the signs of the numbers that it saw.
-func sound(t *testing.T, d *drawn, cases int) string {
-	pi := new(big.Float).Sub(new(big.Float).Mul(float(16), arc(5)), new(big.Float).Mul(float(4), arc(239)))
-	e, term := float(0), float(1)
+func constants() (pi, e *big.Float) {
+	pi = new(big.Float).Sub(new(big.Float).Mul(float(16), arc(5)), new(big.Float).Mul(float(4), arc(239)))
+	e = float(0)
+	term := float(1)
 	for k := 1; k < 400; k++ {
 		e.Add(e, term)
 		term.Quo(term, float(k))
 	}
+	return pi, e
+}
+
+// sound tells the signs of the numbers that it saw.
+func sound(t *testing.T, d *drawn, cases int) string {
+	pi, e := constants()
 	signs := ""
 	for i := 0; i < cases; i++ {
 		s := d.expression(1 + i%3)

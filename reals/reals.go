@@ -4,6 +4,7 @@ package reals
 import (
 	"reals/api"
 	"reals/matrix"
+	"reals/plan"
 	"reals/tree"
 )
 
@@ -56,10 +57,47 @@ func (x *Expr) Encloses(k int, fuel int) (string, string, api.Errno) {
 }
 
 // Decimal tells the value times 10 to the n as a whole number (P15).
-func (x *Expr) Decimal(n int, fuel int) (string, api.Errno) { return "", api.OK }
+func (x *Expr) Decimal(n int, fuel int) (string, api.Errno) {
+	part, err := x.begin(n, fuel)
+	if err != api.OK {
+		return "", err
+	}
+	m, err := decimal(part, n, fuel)
+	if err != api.OK {
+		return "", err
+	}
+	return m.Text(), api.OK
+}
 
 // Terms tells k terms of the continued fraction (P16).
-func (x *Expr) Terms(k int, fuel int) ([]string, api.Errno) { return nil, api.OK }
+func (x *Expr) Terms(k int, fuel int) ([]string, api.Errno) {
+	part, err := x.begin(k, fuel)
+	if err != api.OK {
+		return nil, err
+	}
+	if part.IsFraction() {
+		return texts(part.Value.Terms(k)), api.OK
+	}
+	list, err := terms(part, k, fuel)
+	if err != api.OK {
+		return nil, err
+	}
+	return texts(list), api.OK
+}
 
 // Compare tells which of two values is the greater (P17).
-func Compare(x *Expr, y *Expr, bits int, fuel int) (int, api.Errno) { return 0, api.OK }
+func Compare(x *Expr, y *Expr, bits int, fuel int) (int, api.Errno) {
+	left, err := x.begin(bits, fuel)
+	if err != api.OK {
+		return 0, err
+	}
+	right, err := y.begin(bits, fuel)
+	if err != api.OK {
+		return 0, err
+	}
+	if left.IsFraction() && right.IsFraction() {
+		return left.Value.Compare(right.Value), api.OK
+	}
+	apart := &plan.Part{Kind: tree.Subtract, Left: left, Right: right}
+	return compared(apart, bits, fuel)
+}

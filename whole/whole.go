@@ -87,6 +87,16 @@ func (a Int) Times(b Int) Int {
 	return Int{below: below, limbs: multiplyLimbs(a.limbs, b.limbs)}
 }
 
+// Power tells base to the power of times; 1 of times below 1.
+func Power(base int, times int) Int {
+	power := Of(1)
+	factor := Of(base)
+	for i := 0; i < times; i++ {
+		power = power.Times(factor)
+	}
+	return power
+}
+
 // CompareProducts tells -1, 0 or 1, as a * b is less than c * d, equal or greater.
 func CompareProducts(a Int, b Int, c Int, d Int) int {
 	sign := a.Sign() * b.Sign()

@@ -189,3 +189,13 @@ func TestText(t *testing.T) {
 		t.Errorf("Text of 0 = %q", got)
 	}
 }
+
+func TestPower(t *testing.T) {
+	for _, base := range []int{-3, -1, 0, 1, 2, 10} {
+		for _, times := range []int{0, 1, 2, 9, 31, 32, 33, 60} {
+			want := new(big.Int).Exp(big.NewInt(int64(base)), big.NewInt(int64(times)), nil)
+			same(t, "Power", Power(base, times), want)
+		}
+		same(t, "Power below 0", Power(base, -1), big.NewInt(1))
+	}
+}
